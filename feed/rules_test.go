@@ -155,6 +155,7 @@ func givings() []given {
 	var all []given
 	for i, f := range []api.Feed{{}, known(rid(1, 5), 3, 3), known(rid(1, 5), 30, 20), known(rid(1, 5), 70, 64)} {
 		f.Prev, f.Until = rid(2, 3), f.Off/2
+		others := turned(f)
 		for j, l := range [][]api.Effect{nil, effects(100, 101), effects(100, 116), effects(100, 170)} {
 			db := spaces()[(i+j)%5]
 			for _, m := range []api.Msg{
@@ -163,7 +164,7 @@ func givings() []given {
 			} {
 				m.Effects = l
 				for _, off := range []int{f.Off, f.Off - 3, f.Off / 2, -1} {
-					g := turned(f)[(i*7+j)%len(turned(f))]
+					g := others[(i*7+j)%len(others)]
 					all = append(all, given{f, f, db, l, f.Rid, off, m}, given{f, g, db, l, f.Prev, off, m})
 				}
 			}
